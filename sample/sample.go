@@ -1,4 +1,4 @@
-// Package sample makes sources out of numbers, for tests: programs in which control goes about as C lets it.
+// Package sample makes sources and modules out of numbers, for tests: programs in which control goes about as C lets it, and modules in which it goes anywhere.
 package sample
 
 import "strconv"
@@ -8,7 +8,7 @@ const room = 3000
 
 // Program is a source that lex, parse and check take; which one, the number says. Not all of them end.
 func Program(number uint64) string {
-	m := maker{state: number}
+	m := maker{dice: dice{number}}
 	m.file()
 	return string(m.text)
 }
@@ -35,7 +35,7 @@ type entry struct {
 
 // maker writes a source.
 type maker struct {
-	state   uint64
+	dice
 	text    []byte
 	vars    []variable
 	scope   int // where in vars the innermost scope begins
@@ -57,20 +57,6 @@ type body struct {
 type choices struct {
 	values []int
 	other  bool
-}
-
-// below is a number below n: the state goes on by a constant, and its bits are mixed.
-func (m *maker) below(n int) int {
-	m.state += 0x9e3779b97f4a7c15
-	z := m.state
-	z = (z ^ z>>30) * 0xbf58476d1ce4e5b9
-	z = (z ^ z>>27) * 0x94d049bb133111eb
-	return int((z ^ z>>31) % uint64(n))
-}
-
-// one tells yes in one of n cases.
-func (m *maker) one(n int) bool {
-	return m.below(n) == 0
 }
 
 func (m *maker) put(pieces ...string) {
