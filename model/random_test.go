@@ -17,7 +17,7 @@ func TestSamplesRunAsWrittenOut(t *testing.T) {
 		src := sample.Program(i)
 		p := programOf(t, src)
 		code := written(p)
-		input := someInput(r)
+		input := sample.Input(r.Uint64())
 		o, e := model.Run(p, input, 20000)
 		if e != api.OK {
 			t.Fatal(e)
@@ -38,14 +38,6 @@ func TestSamplesRunAsWrittenOut(t *testing.T) {
 			t.Errorf("the trap %d never came about", trap)
 		}
 	}
-}
-
-func someInput(r *rand.Rand) string {
-	b := make([]byte, r.Intn(40))
-	for i := range b {
-		b[i] = byte(r.Intn(256))
-	}
-	return string(b)
 }
 
 // less is P4.2's first part: with less fuel than was needed the run stops by it, with a beginning of the output; with more it is the same.
@@ -71,7 +63,7 @@ func unread(t *testing.T, p api.Program, input string, asked int, o api.Outcome,
 	if asked > len(input) {
 		return
 	}
-	if x, _ := model.Run(p, input[:asked]+someInput(r), 20000); x != o {
+	if x, _ := model.Run(p, input[:asked]+sample.Input(r.Uint64()), 20000); x != o {
 		t.Fatalf("%+v, with another rest of the input %+v", o, x)
 	}
 }

@@ -13,14 +13,8 @@ func (r *machine) do(c *call, i *api.Ins) {
 	switch i.Op {
 	case api.InsConst:
 		c.temps[i.D] = i.N
-	case api.InsMove:
-		c.temps[i.D] = c.temps[i.A]
-	case api.InsNeg:
-		c.temps[i.D] = -c.temps[i.A]
-	case api.InsNot:
-		c.temps[i.D] = ^c.temps[i.A]
-	case api.InsLow:
-		c.temps[i.D] = c.temps[i.A] % 256
+	case api.InsMove, api.InsNeg, api.InsNot, api.InsLow:
+		c.temps[i.D] = word.Single(i.Op, c.temps[i.A])
 	case api.InsDivS, api.InsDivU, api.InsRemS, api.InsRemU:
 		if c.temps[i.B] == 0 {
 			r.trap(api.TrapDiv)
@@ -66,28 +60,8 @@ func (r *machine) getc() uint32 {
 	return uint32(r.input[r.read-1])
 }
 
-// chooser makes a closure that tells, for an instruction of two words, what it makes of them. (What divides is asked only of a right word that is not 0.)
+// chooser makes a closure that tells, for an instruction of two words, what it makes of them.
 func chooser() func(op int) func(a, b uint32) uint32 {
-	does := [...]func(a, b uint32) uint32{
-		api.InsAdd:  func(a, b uint32) uint32 { return a + b },
-		api.InsSub:  func(a, b uint32) uint32 { return a - b },
-		api.InsMul:  func(a, b uint32) uint32 { return a * b },
-		api.InsDivS: word.DivS,
-		api.InsDivU: func(a, b uint32) uint32 { return a / b },
-		api.InsRemS: word.RemS,
-		api.InsRemU: func(a, b uint32) uint32 { return a % b },
-		api.InsAnd:  func(a, b uint32) uint32 { return a & b },
-		api.InsOr:   func(a, b uint32) uint32 { return a | b },
-		api.InsXor:  func(a, b uint32) uint32 { return a ^ b },
-		api.InsShl:  word.Shl,
-		api.InsShrS: word.ShrS,
-		api.InsShrU: word.ShrU,
-		api.InsEq:   func(a, b uint32) uint32 { return word.Bool(a == b) },
-		api.InsNe:   func(a, b uint32) uint32 { return word.Bool(a != b) },
-		api.InsLtS:  func(a, b uint32) uint32 { return word.Bool(word.LtS(a, b)) },
-		api.InsLtU:  func(a, b uint32) uint32 { return word.Bool(a < b) },
-		api.InsLeS:  func(a, b uint32) uint32 { return word.Bool(!word.LtS(b, a)) },
-		api.InsLeU:  func(a, b uint32) uint32 { return word.Bool(a <= b) },
-	}
+	does := word.Works()
 	return func(op int) func(a, b uint32) uint32 { return does[op] }
 }

@@ -12,22 +12,11 @@ import (
 	"switchback/sample"
 )
 
-func someInput(r *rand.Rand) string {
-	b := make([]byte, r.Intn(30))
-	for i := range b {
-		b[i] = byte(r.Intn(6))
-		if r.Intn(4) == 0 {
-			b[i] = byte(r.Intn(256))
-		}
-	}
-	return string(b)
-}
-
 func TestSamplesRunAsInTheSecondWay(t *testing.T) {
 	r := rand.New(rand.NewSource(5))
 	for i := range uint64(8000) {
 		m := sample.Module(i)
-		input, fuel := someInput(r), 1500+r.Intn(100)
+		input, fuel := sample.Input(r.Uint64()), 1500+r.Intn(100)
 		ahead := graph.Copy(m)
 		o := ran(t, m, input, fuel)
 		want, asked := runAgain(m, input, fuel)
@@ -41,7 +30,7 @@ func TestSamplesRunAsInTheSecondWay(t *testing.T) {
 			otherFuel(t, m, input, o, r.Intn(o.Steps+3))
 		}
 		if asked <= len(input) {
-			if x := ran(t, m, input[:asked]+someInput(r), fuel); x != o {
+			if x := ran(t, m, input[:asked]+sample.Input(r.Uint64()), fuel); x != o {
 				t.Fatalf("%d: %+v, with another rest of the input %+v", i, o, x)
 			}
 		}

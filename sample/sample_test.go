@@ -4,27 +4,16 @@ import (
 	"testing"
 
 	"switchback/api"
-	"switchback/check"
-	"switchback/lex"
 	"switchback/model"
-	"switchback/parse"
 	"switchback/sample"
 )
 
 func programOf(t *testing.T, number uint64) api.Program {
 	t.Helper()
 	src := sample.Program(number)
-	l, at, e := lex.Lex(src)
-	if e != api.OK {
-		t.Fatalf("%d: lex %d at %d\n%s", number, e, at, src)
-	}
-	tree, at, e := parse.Parse(l)
-	if e != api.OK {
-		t.Fatalf("%d: parse %d at %d\n%s", number, e, at, src)
-	}
-	p, at, e := check.Check(tree)
-	if e != api.OK {
-		t.Fatalf("%d: check %d at %d\n%s", number, e, at, src)
+	p, wrong := sample.Read(src)
+	if wrong != "" {
+		t.Fatalf("%d: %s\n%s", number, wrong, src)
 	}
 	return p
 }

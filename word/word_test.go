@@ -105,3 +105,35 @@ func TestTypes(t *testing.T) {
 		t.Error("joined types")
 	}
 }
+
+// TestWorks holds what instructions make of words against what operators do.
+func TestWorks(t *testing.T) {
+	works := word.Works()
+	for ins, of := range map[int][2]int{
+		api.InsAdd: {api.OpAdd, api.TypeInt}, api.InsSub: {api.OpSub, api.TypeInt}, api.InsMul: {api.OpMul, api.TypeInt},
+		api.InsDivS: {api.OpDiv, api.TypeInt}, api.InsDivU: {api.OpDiv, api.TypeUnsigned}, api.InsRemS: {api.OpRem, api.TypeInt}, api.InsRemU: {api.OpRem, api.TypeUnsigned},
+		api.InsAnd: {api.OpAnd, api.TypeInt}, api.InsOr: {api.OpOr, api.TypeInt}, api.InsXor: {api.OpXor, api.TypeInt},
+		api.InsShl: {api.OpShl, api.TypeInt}, api.InsShrS: {api.OpShr, api.TypeInt}, api.InsShrU: {api.OpShr, api.TypeUnsigned},
+		api.InsEq: {api.OpEq, api.TypeInt}, api.InsNe: {api.OpNe, api.TypeInt}, api.InsLtS: {api.OpLt, api.TypeInt}, api.InsLtU: {api.OpLt, api.TypeUnsigned}, api.InsLeS: {api.OpLe, api.TypeInt}, api.InsLeU: {api.OpLe, api.TypeUnsigned},
+	} {
+		for _, a := range words() {
+			for _, b := range words() {
+				if b == 0 && word.Divides(of[0]) {
+					continue
+				}
+				if got, want := works[ins](a, b), word.Binary(of[0], of[1], a, b); got != want {
+					t.Errorf("%d of %d and %d: %d, want %d", ins, a, b, got, want)
+				}
+			}
+		}
+	}
+}
+
+func TestSingle(t *testing.T) {
+	for _, a := range words() {
+		got := [4]uint32{word.Single(api.InsMove, a), word.Single(api.InsNeg, a), word.Single(api.InsNot, a), word.Single(api.InsLow, a)}
+		if got != [4]uint32{a, 1<<32 - 1 - a + 1, 1<<32 - 1 - a, a - a/256*256} {
+			t.Errorf("%d: %v", a, got)
+		}
+	}
+}
