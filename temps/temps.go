@@ -1,4 +1,4 @@
-// Package temps tells which temps instructions and ends use and set.
+// Package temps tells which temps instructions and ends use and set, and has sets of temps.
 package temps
 
 import (
@@ -10,7 +10,7 @@ import (
 // Used are the temps that an instruction uses, each as often as it does.
 func Used(i *api.Ins) iter.Seq[*int] {
 	return func(yield func(*int) bool) {
-		if usesA(i.Op) && !yield(&i.A) || usesB(i.Op) && !yield(&i.B) {
+		if usesA(i.Op) && !yield(&i.A) || usesB(i.Op) && !yield(&i.B) || i.Op != api.InsCall {
 			return
 		}
 		for k := range i.Args {

@@ -25,7 +25,7 @@ func sorts() map[int]string {
 
 func TestInstructions(t *testing.T) {
 	for op, sort := range sorts() {
-		i := api.Ins{Op: op, D: 11, A: 12, B: 13}
+		i := api.Ins{Op: op, D: 11, A: 12, B: 13, Args: []int{14, 15, 14}}
 		var want []int
 		for _, c := range sort {
 			switch c {
@@ -34,7 +34,6 @@ func TestInstructions(t *testing.T) {
 			case 'B':
 				want = append(want, 13)
 			case 'L':
-				i.Args = []int{14, 15, 14}
 				want = append(want, i.Args...)
 			}
 		}
