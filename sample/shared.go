@@ -13,6 +13,17 @@ func Shared(modules ...api.Module) bool {
 	return false
 }
 
+// Apart tells whether no two of some lists share memory, their spare room with it.
+func Apart[T any](lists ...[]T) bool {
+	taken := map[*T]int{}
+	for _, l := range lists {
+		if !free(taken, l) {
+			return false
+		}
+	}
+	return true
+}
+
 // places are the places in memory at which an item of a list stands.
 type places struct {
 	words   map[*uint32]int

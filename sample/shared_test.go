@@ -50,3 +50,13 @@ func TestWhatIsShared(t *testing.T) {
 		}
 	}
 }
+
+func TestApart(t *testing.T) {
+	l := make([]int, 3, 5)
+	if !sample.Apart[int]() || !sample.Apart(l, nil, []int{1}, make([]int, 3)) || !sample.Apart(l[0:2:2], l[2:]) {
+		t.Error("what is apart is told of as shared")
+	}
+	if sample.Apart(l, l) || sample.Apart(l, []int{1}, l[3:]) || sample.Apart(l[:1], l[1:2]) || sample.Apart(l[:0], l[4:5]) {
+		t.Error("what is shared is told of as apart")
+	}
+}
