@@ -6,6 +6,7 @@ import (
 	"strings"
 
 	"switchback/api"
+	"switchback/emu"
 	"switchback/graph"
 	"switchback/run"
 )
@@ -41,8 +42,19 @@ func arrayParams(g api.Graph) int {
 
 // Unlike tells how runs of a module and of what a pass made of it differ, on an input, by some fuel; it is empty, if they mean the same. A run of the module that ends within n steps is to be one of the result within most(n).
 func Unlike(m, result api.Module, input string, fuel int, most func(n int) int) string {
+	return unlike(m, input, fuel, most, func(fuel int) (api.Outcome, api.Errno) { return run.Run(result, input, fuel) })
+}
+
+// UnlikeImage tells how runs of a module and of an image that is to mean the same (chapter 21) differ, on an input, by some fuel; it is empty, if they do not.
+func UnlikeImage(m api.Module, image api.Image, input string, fuel int) string {
+	most := func(n int) int { return 20000 * (n + 1) }
+	return unlike(m, input, fuel, most, func(fuel int) (api.Outcome, api.Errno) { return emu.Run(image, input, fuel) })
+}
+
+// unlike holds runs of a module against those of a result, by their fuel.
+func unlike(m api.Module, input string, fuel int, most func(n int) int, result func(fuel int) (api.Outcome, api.Errno)) string {
 	a, e := run.Run(m, input, fuel)
-	b, f := run.Run(result, input, fuel)
+	b, f := result(fuel)
 	if e != api.OK || f != api.OK {
 		return "refused"
 	}
@@ -51,7 +63,7 @@ func Unlike(m, result api.Module, input string, fuel int, most func(n int) int) 
 	}
 	if a.Stop != api.StopFuel {
 		limit := min(most(a.Steps), api.MaxFuel)
-		if x, _ := run.Run(result, input, limit); !alike(a, x) {
+		if x, _ := result(limit); !alike(a, x) {
 			return "the result ends otherwise:" + told(a) + told(x)
 		}
 	}
