@@ -1,46 +1,17 @@
 package emit_test
 
 import (
-	"strconv"
 	"strings"
 	"testing"
 
 	"switchback/api"
+	"switchback/list"
 )
 
-// text writes lines as chapter 22 does.
+// text is a list in one row.
 func text(l []api.Line) string {
-	names := strings.Fields("LI LIT MOV ADDI ADD SUB MUL DIVS DIVU REMS REMU AND OR XOR SHL SHRS SHRU EQ NE LTS LTU LES LEU NEG NOT LOW LD ST CHK BEQ BNE BLTS BGES BLES BGTS BLTU BGEU BLEU BGTU JMP JML JTAB CALL RET GETC PUTC EXIT TRAP")
-	var lines []string
-	for _, x := range l {
-		if x.Op == api.LineLabel {
-			lines = append(lines, "L"+strconv.Itoa(x.Label)+":")
-			continue
-		}
-		words := []string{names[x.Op-1]}
-		register := func(r int) { words = append(words, "R"+strconv.Itoa(r)) }
-		number := func(n int) { words = append(words, strconv.Itoa(n)) }
-		if x.Op < api.MacJMP || x.Op == api.MacJTAB || x.Op >= api.MacGETC && x.Op <= api.MacEXIT {
-			register(x.A)
-		}
-		if x.Op >= api.MacMOV && x.Op <= api.MacBGTU {
-			register(x.B)
-		}
-		switch {
-		case x.Op >= api.MacADD && x.Op <= api.MacLEU:
-			register(x.Imm)
-		case x.Op == api.MacLI || x.Op == api.MacADDI || x.Op == api.MacLD || x.Op == api.MacST:
-			number(x.Imm)
-		case x.Op == api.MacLIT:
-			number(int(x.N))
-		}
-		to, _ := goals(&x)
-		for _, label := range to {
-			words = append(words, "L"+strconv.Itoa(*label))
-		}
-		lines = append(lines, strings.Join(words, " "))
-	}
-	return strings.Join(lines, "; ")
+	s, _ := list.Print(l)
+	return strings.ReplaceAll(strings.TrimSuffix(s, "\n"), "\n", "; ")
 }
 
 // TestLines has whole lists: that no line more stands in them is the program's own wish, where the chapter leaves them free.
