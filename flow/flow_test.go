@@ -2,14 +2,12 @@ package flow_test
 
 import (
 	"slices"
-	"strings"
 	"testing"
 
 	"switchback/api"
 	"switchback/flow"
 	"switchback/graph"
 	"switchback/model"
-	"switchback/run"
 	"switchback/sample"
 )
 
@@ -38,32 +36,11 @@ func lowered(t *testing.T, p api.Program) api.Module {
 // same holds a run of the module against one of the program: P7.2, both ways. It tells how the program's ends.
 func same(t *testing.T, p api.Program, m api.Module, input string, fuel int) api.Outcome {
 	t.Helper()
-	a, _ := model.Run(p, input, fuel)
-	b, e := run.Run(m, input, fuel)
-	if e != api.OK {
-		t.Fatalf("Run: %d", e)
+	if s := sample.UnlikeLowered(p, m, input, fuel); s != "" {
+		t.Errorf("%q: %s", input, s)
 	}
-	if !strings.HasPrefix(a.Output, b.Output) && !strings.HasPrefix(b.Output, a.Output) {
-		t.Errorf("the program puts out %q, the module %q", a.Output, b.Output)
-	}
-	if a.Stop != api.StopFuel {
-		limit := min((a.Steps+1)*(len(p.Nodes)+16), api.MaxFuel)
-		if x, _ := run.Run(m, input, limit); !alike(a, x) {
-			t.Errorf("the program %+v, the module with %d steps %+v", a, limit, x)
-		}
-	}
-	if b.Stop != api.StopFuel {
-		limit := min((b.Steps+1)*(len(p.Nodes)+1), api.MaxFuel)
-		if x, _ := model.Run(p, input, limit); !alike(b, x) {
-			t.Errorf("the module %+v, the program with %d steps %+v", b, limit, x)
-		}
-	}
-	return a
-}
-
-// alike tells whether two runs end alike.
-func alike(a, b api.Outcome) bool {
-	return a.Stop != api.StopFuel && a.Stop == b.Stop && a.Code == b.Code && a.Output == b.Output
+	o, _ := model.Run(p, input, fuel)
+	return o
 }
 
 // shaped holds a module's shape against the program's: P7.1 and P7.3.
@@ -163,16 +140,9 @@ func TestExample(t *testing.T) {
 }
 
 func TestExamplesOfTheWhole(t *testing.T) {
-	ends(t, api.StopExit, 7, "", "int main(){return 7;}")
-	ends(t, api.StopExit, 0, "bcdabcdabcd", "int main(){int n=3; switch(n){case 0: do{ putc('a'); case 3: putc('b'); case 2: putc('c'); case 1: putc('d'); }while(--n>0);} return n;}")
-	ends(t, api.StopExit, 3, "yxyxy", "int main(){int i=0; goto in; while(i<3){ putc('x'); in: putc('y'); ++i; } return i;}")
-	ends(t, api.StopExit, 0, "input", "int main(){int c; while((c=getc())!=-1) putc(c); return 0;}")
-	ends(t, api.StopTrap, api.TrapIndex, "", "int a[3]; int main(){a[3]=1; return 0;}")
-	ends(t, api.StopTrap, api.TrapDiv, "", "int main(){return 1/0;}")
-	ends(t, api.StopTrap, api.TrapDepth, "", "int f(){return f();} int main(){return f();}")
-	ends(t, api.StopFuel, 0, "", "int main(){for(;;);}")
-	ends(t, api.StopExit, 1, "", "unsigned f(unsigned x){return x>>1;} int main(){return f(-2)==2147483647;}")
-	ends(t, api.StopExit, 13, "", "int main(){int i; if(0){ l: for(i=10;;){ if(i++>11) break; } return i; } goto l;}")
+	for _, x := range sample.Examples() {
+		ends(t, x.Stop, x.Code, x.Output, x.Source)
+	}
 }
 
 func TestShapes(t *testing.T) {

@@ -1,6 +1,7 @@
 package sample_test
 
 import (
+	"slices"
 	"testing"
 
 	"switchback/api"
@@ -80,5 +81,58 @@ func TestUnlike(t *testing.T) {
 	}
 	if sample.Unlike(m, echo(8), "ab", 100, asMany) == "" || sample.Unlike(m, longer, "ab", 100, asMany) == "" {
 		t.Error("another code, or more steps: alike")
+	}
+}
+
+// program is a program that means the same as echo.
+func program(t *testing.T, code string) api.Program {
+	t.Helper()
+	p, wrong := sample.Read("int main(){putc(getc());putc(getc());putc(getc());return " + code + ";}")
+	if wrong != "" {
+		t.Fatal(wrong)
+	}
+	return p
+}
+
+func TestUnlikeLowered(t *testing.T) {
+	p := program(t, "7")
+	for _, fuel := range []int{0, 1, 3, 7, 13, 14, 1000} {
+		if s := sample.UnlikeLowered(p, echo(7), "ab", fuel); s != "" {
+			t.Errorf("%d: %s", fuel, s)
+		}
+	}
+	endless := echo(7)
+	endless.Funcs[0].Blocks[0].End = api.End{Kind: api.EndJump}
+	longer := echo(7)
+	most := (len(p.Nodes) + 16) * 19
+	longer.Funcs[0].Blocks[0].Code = append(longer.Funcs[0].Blocks[0].Code, slices.Repeat([]api.Ins{{Op: api.InsMove}}, most)...)
+	for name, m := range map[string]api.Module{"another code": echo(8), "no end": endless, "too many steps": longer, "no module": {}} {
+		if sample.UnlikeLowered(p, m, "ab", 100) == "" {
+			t.Errorf("%s: alike", name)
+		}
+	}
+	if sample.UnlikeLowered(program(t, "1/0"), echo(7), "ab", 100) == "" {
+		t.Error("a trap: alike")
+	}
+}
+
+func TestUnlikeProgram(t *testing.T) {
+	p := program(t, "7")
+	for _, fuel := range []int{0, 1, 3, 7, 13, 14, 1000} {
+		if s := sample.UnlikeProgram(p, imageOf(echoing(7)...), "ab", fuel); s != "" {
+			t.Errorf("%d: %s", fuel, s)
+		}
+	}
+	for name, code := range map[string][]api.Code{
+		"another code": echoing(8),
+		"less output":  echoing(7)[2:],
+		"no end":       append(echoing(7)[:6:6], api.Code{Op: api.MacJMP, Imm: -1}),
+	} {
+		if sample.UnlikeProgram(p, imageOf(code...), "ab", 100) == "" {
+			t.Errorf("%s: alike", name)
+		}
+	}
+	if sample.UnlikeProgram(program(t, "1/0"), imageOf(echoing(7)...), "ab", 100) == "" || sample.UnlikeProgram(p, api.Image{}, "ab", 100) == "" {
+		t.Error("a trap, or no image: alike")
 	}
 }
